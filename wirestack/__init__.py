@@ -1,0 +1,1 @@
+"""Wirestack: a network over links that lose, double, bend and overtake what they carry."""
