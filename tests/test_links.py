@@ -210,6 +210,8 @@ class BentTest(unittest.TestCase):
     def test_what_follows_an_escape_stays(self):
         self.assertEqual(bent_bytes((126, 125, 94, 9), 2, 7), (126, 125, 94, 9))
         self.assertEqual(bent_bytes((126, 125, 94, 9), 3, 7), (126, 125, 94, 16))
+        self.assertEqual(bent_bytes((125, 94), 1, 7), (125, 94))
+        self.assertEqual(bent_bytes((5, 125), 0, 1), (6, 125))
 
     def test_a_frame_that_was_bent_anywhere_never_tells_another_payload(self):
         payload = (1, 125, 126, 2, 124, 127, 250)

@@ -196,6 +196,14 @@ class PartTest(unittest.TestCase):
                 with self.assertRaises(MessageError):
                     read_request("GET / 1 0\n" + line + "\n\n")
 
+    def test_heads_that_do_not_ascend_form_no_message(self):
+        self.assertEqual(read_request("GET / 1 0\na: 2\nb: 1\n\n"), [("GET", "/", 1, (("a", "2"), ("b", "1")), "")])
+        for lines in ("b: 1\na: 2\n", "a: 1\nc: 2\nb: 3\n"):
+            with self.assertRaises(MessageError):
+                read_request("GET / 1 0\n" + lines + "\n")
+            with self.assertRaises(MessageError):
+                read_answer("200 1 0\n" + lines + "\n")
+
     def test_a_name_told_twice(self):
         with self.assertRaises(MessageError):
             heads_of(["a: 1", "b: 2", "a: 1"])

@@ -104,7 +104,7 @@ class TextTest(unittest.TestCase):
                 text_bytes(text)
 
     def test_bytes_that_are_no_letters_are_refused(self):
-        for data in ((95,), (255,), (1, 2, 95), (128, 0)):
+        for data in ((95,), (255,), (1, 2, 95), (128, 0), (-1,), (1, -95)):
             with self.assertRaises(OctetError):
                 bytes_text(data)
         self.assertEqual(bytes_text((94,)), "~")

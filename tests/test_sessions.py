@@ -180,6 +180,18 @@ class EndTest(SessionCase):
         self.assertTrue(stream.is_done() and other.stream.is_over())
         self.assertEqual((other.seal.state, other.fault), ("over", None))
 
+    def test_a_side_that_has_ended_sends_no_more(self):
+        net = Net()
+        one, other = self.sessions(net)
+        one.end()
+        with self.assertRaises(SealError):
+            one.send((1, 2))
+        self.go(net, 10, one, other)
+        one.end()
+        with self.assertRaises(SealError):
+            one.send((1, 2))
+        self.assertEqual((one.fault, other.fault, other.seal.state), (None, None, "over"))
+
     def test_a_stream_that_was_cut_off_gives_a_fault(self):
         net = Net()
         one, other = self.sessions(net)
@@ -224,6 +236,45 @@ class FaultTest(SessionCase):
         self.assertEqual([message.shown() for message in one.tick()], [answer.shown()])
         self.assertEqual((one.fault, one.tick()), ("timed out", ()))
 
+    def test_sending_on_a_stream_that_failed_leaves_its_fault_to_be_told(self):
+        net = Net()
+        one, other = self.sessions(net)
+        self.go(net, 10, one, other)
+        answer = Answer(200, 1)
+        other.send(answer_bytes(answer))
+        for _ in range(3):
+            net.go()
+        one.send((1, 2, 3))
+        for _ in range(500):
+            net.ends[1].tick()
+        one.send((1, 2, 3))
+        self.assertEqual([message.shown() for message in one.tick()], [answer.shown()])
+        self.assertEqual(one.fault, "timed out")
+
+    def test_a_stream_that_takes_no_more_bytes_gives_a_fault(self):
+        net = Net()
+        one, other = self.sessions(net)
+        self.go(net, 10, one, other)
+        one.stream.close()
+        one.send((1, 2, 3))
+        self.assertIsInstance(one.fault, str)
+
+    def test_the_fault_is_there_with_the_messages_before_the_damage(self):
+        for noise in ((0,), Seal(11, True).hello()):
+            net = Net()
+            one, other = self.sessions(net)
+            self.go(net, 10, one, other)
+            one.send(request_bytes(Request("GET", "/a", 1)))
+            one.stream.send(noise)
+            net.go()
+            self.assertEqual((len(other.tick()), type(other.fault)), (1, str))
+        net = Net()
+        one, other = self.sessions(net)
+        self.go(net, 10, one, other)
+        one.send(request_bytes(Request("GET", "/a", 1)) + (200,))
+        net.go()
+        self.assertEqual((len(other.tick()), type(other.fault)), (1, str))
+
     def test_a_seal_that_breaks_gives_a_fault(self):
         for noise in ((0,), (5, 1, 2, 3, 4, 5), (255, 255)):
             net = Net()
@@ -236,6 +287,15 @@ class FaultTest(SessionCase):
             self.assertIsInstance(other.fault, str)
             one.send(request_bytes(request))
             self.assertEqual(self.go(net, 10, other), [[]])
+            self.assertEqual(other.tick(), ())
+
+    def test_the_other_side_of_a_broken_seal_sees_its_stream_cut_off(self):
+        net = Net()
+        one, other = self.sessions(net)
+        self.go(net, 10, one, other)
+        one.stream.send((0,))
+        self.go(net, 10, one, other)
+        self.assertIsInstance(one.fault, str)
 
     def test_a_hello_that_is_none_gives_a_fault(self):
         net = Net()
@@ -254,6 +314,14 @@ class FaultTest(SessionCase):
         one.send((200, 200))
         self.assertEqual(self.go(net, 10, one, other)[1], [request.shown()])
         self.assertIsInstance(other.fault, str)
+
+    def test_bytes_that_form_no_message_alone_give_a_fault(self):
+        net = Net()
+        one, other = self.sessions(net)
+        one.send((200, 200))
+        self.assertEqual(self.go(net, 10, one, other)[1], [])
+        self.assertIsInstance(other.fault, str)
+        self.assertEqual(other.tick(), ())
 
     def test_take_feeds_bytes_and_returns_messages(self):
         net = Net()

@@ -411,6 +411,82 @@ class WaitTest(unittest.TestCase):
         gaps = [other[0] - one[0] for one, other in zip(rows, rows[1:])]
         self.assertEqual(gaps[:2], [12, 24])
 
+    def test_an_open_stream_may_be_sent_again_ten_times_behind_new_bytes_heard_of(self):
+        end = Endpoint(1)
+        stream = end.connect(2)
+        end.tick()
+        end.receive(2, segment_bytes((DATA, 1, stream.number, 0, 0, 400, 0, ())))
+        stream.send((1, 2, 3, 4))
+        end.take_outbox()
+        for told in (1, 2, 3):
+            rows = self.sent_at(end, 335)
+            self.assertGreaterEqual(len(rows), 9)
+            gaps = [other[0] - one[0] for one, other in zip(rows, rows[1:])]
+            self.assertEqual(gaps[-1], 48)
+            self.assertIn(12, gaps)
+            self.assertEqual(stream.state, "open")
+            end.receive(2, segment_bytes((DATA, 1, stream.number, 0, told, 400, 0, ())))
+        self.sent_at(end, 500)
+        self.assertEqual((stream.state, stream.fault), ("failed", "timed out"))
+
+    def test_an_answer_to_the_opening_begins_the_waits_anew(self):
+        end = Endpoint(1)
+        stream = end.connect(2)
+        self.assertEqual([tick for tick, _ in self.sent_at(end, 20)], [0, 6, 18])
+        end.receive(2, segment_bytes((DATA, 1, stream.number, 0, 0, 400, 0, ())))
+        stream.send((1, 2, 3, 4))
+        self.assertEqual([tick for tick, _ in self.sent_at(end, 20)], [0, 6, 18])
+
+    def test_what_is_sent_after_a_silence_waits_anew(self):
+        pair = Pair()
+        stream, other = pair.opened()
+        pair.go(3)
+        for _ in range(2):
+            stream.send((1,))
+            self.assertEqual([tick for tick, _ in self.sent_at(pair.one, 20)], [0, 6, 18])
+            stream.send((2,))
+            pair.go(60)
+            self.assertEqual(other.read(), (1, 2))
+            pair.go(10)
+
+    def test_an_opening_that_comes_again_is_answered_again(self):
+        end = Endpoint(2)
+        end.listen()
+        for _ in range(3):
+            end.receive(1, segment_bytes((OPEN, 1, 1, 0, 0, 400, 0, ())))
+            self.assertEqual([[row[:TOLD + 1] for row in rows] for _, rows in self.sent_at(end, 3)], [[(DATA, 1, 1, 0, 0)]])
+
+    def test_bytes_that_come_again_are_answered_again(self):
+        end = Endpoint(2)
+        end.listen()
+        for _ in range(3):
+            end.receive(1, segment_bytes((OPEN, 1, 1, 0, 0, 400, 1, (7, 8))))
+            self.assertEqual([[row[TOLD] for row in rows] for _, rows in self.sent_at(end, 3)], [[3]])
+
+    def test_a_stream_that_is_done_but_not_over_waits_for_ever(self):
+        pair = Pair()
+        stream, other = pair.opened()
+        stream.send((1, 2))
+        stream.close()
+        pair.go(5)
+        self.assertEqual((other.read(), stream.is_done()), ((1, 2), True))
+        for _ in range(600):
+            self.assertEqual(pair.outgoing(), [])
+        self.assertEqual((stream.state, other.state), ("open", "open"))
+        other.send((3,))
+        other.close()
+        pair.go(5)
+        self.assertEqual(stream.read(), (3,))
+        pair.go(5)
+        self.assertEqual((stream.state, other.state), ("closed", "closed"))
+
+    def test_reading_nothing_tells_nothing(self):
+        pair = Pair()
+        stream, other = pair.opened()
+        pair.go(5)
+        for _ in range(20):
+            self.assertEqual((stream.read(), other.read(), pair.outgoing()), ((), (), []))
+
     def test_hearing_the_same_again_does_not(self):
         end = Endpoint(1)
         stream = end.connect(2)
@@ -443,6 +519,20 @@ class RefusedTest(unittest.TestCase):
         self.assertIsNone(pair.two.accept())
         self.assertIn(REFUSED, [row[KIND] for source, row in pair.seen if source == 2])
         self.assertFalse(stream.is_done())
+
+    def test_a_refused_stream_sends_and_hears_no_more(self):
+        pair = Pair(listening=False)
+        stream = pair.one.connect(2)
+        rows = pair.outgoing()
+        stream.send((5, 6))
+        pair.arrive(rows[0])
+        for target, data in pair.two.take_outbox():
+            pair.one.receive(2, data)
+        self.assertEqual(stream.fault, "refused")
+        pair.one.receive(2, segment_bytes((DATA, 1, stream.number, 0, 0, 400, 1, (9, 9))))
+        self.assertEqual((stream.read(), stream.is_over(), stream.state), ((), False, "failed"))
+        pair.one.tick()
+        self.assertEqual([row for row in pair.one.take_outbox() if read_segment(row[1])[BYTES] != ()], [])
 
     def test_a_host_that_begins_to_listen_takes_later_streams(self):
         pair = Pair(listening=False)
@@ -531,6 +621,12 @@ class MomentTest(unittest.TestCase):
         self.assertEqual(self.last_told(), 6)
         self.assertEqual((self.stream.read(2), self.stream.is_over()), ((3, 4), False))
         self.assertEqual((self.stream.read(), self.stream.is_over()), ((5,), True))
+
+    def test_nothing_stands_behind_the_end(self):
+        self.hear(0, 0, 1, (1, 2))
+        self.assertEqual(self.stream.read(), (1, 2))
+        self.hear(2, 0, 0, (3,))
+        self.assertEqual((self.stream.read(), self.stream.is_over(), self.last_told()), ((), True, 3))
 
     def test_an_empty_stream_is_over_at_its_end(self):
         self.assertFalse(self.stream.is_over())

@@ -27,7 +27,7 @@ class Session:
     def put(self, data):
         """Send bytes on the stream."""
         # The next tick tells why a stream has failed, behind all that came before.
-        if self.fault is not None or self.stream.state == "failed":
+        if self.stream.state == "failed":
             return
         try:
             self.stream.send(data)
@@ -85,9 +85,8 @@ class Session:
         was_opening = self.seal.state == "opening"
         try:
             pieces = self.seal.feed(data)
-        except SealError as e:
-            self.break_off(str(e))
-            return ()
+        except SealError:
+            pieces = ()
         if was_opening and self.is_sealed():
             self.begin()
         found = self.read_pieces(pieces)
@@ -110,11 +109,10 @@ class Session:
         data = ()
         for piece in pieces:
             data = data + piece
-        found = ()
         try:
             found = self.reader.feed(data)
-        except MessageError as e:
-            self.break_off(str(e))
+        except MessageError:
+            found = ()
         if self.reader.fault is not None:
             self.break_off(self.reader.fault)
         return found

@@ -173,10 +173,11 @@ class Stream:
         if last == 1 and self.end_place is None and end >= self.heard_place:
             self.end_place = end
         limit = self.heard_place + self.room_left()
+        # Nothing stands behind the end.
         if self.end_place is not None:
             limit = min(limit, self.end_place)
         part = data[:max(0, limit - place)]
-        if place + len(part) > self.heard_place and len(part) > len(self.parts.get(place, ())):
+        if len(part) > len(self.parts.get(place, ())):
             self.parts[place] = part
         self.join()
 
@@ -214,8 +215,6 @@ class Stream:
             self.waited += 1
             if self.waited >= self.wait:
                 return self.all_segments()
-        else:
-            self.wait_anew()
         return self.due_segments()
 
     def all_segments(self):
