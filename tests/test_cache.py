@@ -136,6 +136,18 @@ class TakeTest(CacheCase):
         self.assertEqual(self.hit(24), (200, 1, {"version": "1", "age": "4"}, "text"))
         self.assertIsNone(self.hit(25))
 
+    def test_304_without_heads(self):
+        self.put(version="8")
+        self.assertEqual(self.take(304, time=20), (200, 1, {"version": "8"}, "text"))
+        self.assertIsNotNone(self.hit(24))
+        self.assertIsNone(self.hit(25))
+
+    def test_304_may_tell_another_time(self):
+        self.put()
+        self.take(304, time=20, heads={"version": "1", "fresh": "9"})
+        self.assertIsNotNone(self.hit(28))
+        self.assertIsNone(self.hit(29))
+
     def test_304_to_an_own_unless_stays_304(self):
         self.put()
         self.assertEqual(self.take(304, time=20, unless="1"), (304, 1, {}, ""))

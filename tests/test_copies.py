@@ -117,6 +117,7 @@ class BuildTest(StoreCase):
     def test_ring_of_and_same_copies(self):
         stores = self.build(4)
         self.assertEqual(ring_of(stores).rows, Ring((1, 2, 3, 4)).rows)
+        self.assertEqual(ring_of([store.host for store in stores]).rows, Ring((1, 2, 3, 4)).rows)
         self.assertTrue(same_copies(stores, "a"))
         self.assertTrue(same_copies([], "a"))
         key = self.key_with(1, 2, 3)
@@ -393,6 +394,45 @@ class LackTest(StoreCase):
         stores[1].read(key)
         self.go(5)
         self.assertEqual((len(stores[1].events), stores[3].siblings(key)), (1, ()))
+
+    def sent_by(self, *stores):
+        """Let stores write down whom they send messages; return the row."""
+        found = []
+        for store in stores:
+            def sending(target, kind, data, host=store.host, send=store.host.send):
+                if kind > 3:
+                    found.append((host.address, target))
+                send(target, kind, data)
+
+            store.host.send = sending
+        return found
+
+    def messages(self, deed):
+        """Return whom messages are sent by a deed and what it leads to, ascending as (sender, target)."""
+        for store in self.stores:
+            # From here on no turn comes soon.
+            store.host.clock = 991
+        sent = self.sent_by(*self.stores)
+        deed()
+        self.settle()
+        self.go(5)
+        for store in self.stores:
+            del store.host.send
+        return sorted(sent)
+
+    def test_no_more_messages_than_needed(self):
+        stores = self.build(4)
+        key = self.key_with(1, 2, 3)
+        self.written(stores[1], key, "y")
+        asked, answers = [(4, 1), (4, 2), (4, 3)], [(1, 4), (2, 4), (3, 4)]
+        self.assertEqual(self.messages(lambda: stores[3].write(key, "x")), sorted(asked + answers))
+        # The holders know both texts, so nobody has to be told behind a read.
+        self.assertEqual(self.messages(lambda: stores[3].read(key)), sorted(asked + answers))
+        # A holder asks the two others alone.
+        self.assertEqual(self.messages(lambda: stores[0].read(key)), [(1, 2), (1, 3), (2, 1), (3, 1)])
+        # One that lacks something is told, and does not answer.
+        del stores[2].rows[key]
+        self.assertEqual(self.messages(lambda: stores[3].read(key)), sorted(asked + answers + [(4, 3)]))
 
     def turns(self, store, ticks):
         """Return the (clock, target) of what a store sends."""

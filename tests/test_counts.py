@@ -140,6 +140,14 @@ class BytesTest(unittest.TestCase):
                      ((((1, 1), (1, 2)), "a"),), ((((1, 0),), "a"),), ((((0, 1),), "a"),), ((((2, 1), (1, 1)), "a"),)):
             self.refused(siblings_bytes(rows))
 
+    def test_whether_there_is_a_text_is_told_in_one_way(self):
+        one, other = siblings_bytes(((((1, 1),), None),)), siblings_bytes(((((1, 1),), "a"),))
+        places = [place for place in range(len(one)) if one[place] != other[place]]
+        self.assertEqual(places, [len(one) - 2, len(one) - 1])
+        self.refused(other[:-3] + (0,) + other[-2:])
+        self.refused(other[:-3] + (2,) + other[-2:])
+        self.refused(one[:-2] + (2, 0))
+
     def test_too_many_siblings(self):
         rows = merged([(((address, 1),), "x") for address in range(1, 200)])
         self.refused(siblings_bytes(rows))

@@ -203,6 +203,15 @@ class SendTest(HostCase):
         self.learn(1)
         self.assertEqual(found, [(1, data)])
 
+    def test_a_packet_that_just_fits_in_a_frame_goes_in_one_part(self):
+        for size, many in ((384, 1), (385, 2)):
+            links = self.build(("ab", 400))
+            self.learn(3)
+            self.empty()
+            self.hosts["a"].send(2, SEGMENTS, (1,) * size)
+            self.assertEqual(len(links[0].on_way), many)
+            self.assertEqual(len(payloads_in(links[0].on_way[0][1])[0]), 400)
+
     def test_a_body_that_just_fits_goes_in_one_part(self):
         for size, many in ((59, 1), (60, 2)):
             links = self.build("ab")

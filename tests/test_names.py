@@ -1,8 +1,10 @@
 import unittest
 
 from wirestack.errors import HostError
+from wirestack.frames import payloads_in
 from wirestack.names import NameAsker, NameTable, check_name
 from wirestack.network import Network
+from wirestack.packets import read_packet
 
 
 class NameTest(unittest.TestCase):
@@ -96,6 +98,16 @@ class AskerTest(NameCase):
         self.assertEqual(self.asker.address_of("x"), (True, 7))
         self.assertEqual(self.asker.asked, {})
         self.assertEqual(self.asker.kept["x"][0], 7)
+
+    def test_questions_and_answers_are_bodies_of_class_3(self):
+        while self.link.next():
+            pass
+        self.asker.address_of("x")
+        for end in ("b", "a"):
+            ((to, data, _),) = self.link.on_way
+            packet = read_packet(payloads_in(data)[0])
+            self.assertEqual((to, packet.body[0]), (end, 3))
+            self.net.deliver(self.link, self.link.next())
 
     def test_an_unknown_name(self):
         self.assertEqual(self.look_up("x"), (True, None))

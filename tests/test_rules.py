@@ -187,9 +187,9 @@ class CompiledTest(unittest.TestCase):
         self.assertEqual(self.words("drop size 9 from 1 hops 3; accept"),
                          ["need"] + one + one + ["size", "set", "if", "drop", "accept", "drop"])
         self.assertEqual(self.words("drop to 1 most 3; accept"), ["need"] + one + most + ["drop", "accept", "drop"])
-        self.assertEqual(self.words("drop to 1-2; accept"), ["need"] + one + one + ["drop", "accept", "drop"])
+        self.assertEqual(self.words("drop to 1-2; accept"), ["need"] + one + ["set", "if", "drop", "accept", "drop"])
         self.assertEqual(self.words("drop size 1-2; accept"),
-                         ["need"] + ["size", "set", "if"] * 2 + ["drop", "accept", "drop"])
+                         ["need", "size", "set", "if", "set", "if", "drop", "accept", "drop"])
         rows = compiled(parse_rules("drop from 1; accept"))
         self.assertEqual(rows[0], ("need", 5, len(rows) - 1))
         self.assertEqual(rows[1][2:], (0, 2))

@@ -2,7 +2,7 @@ import random
 import unittest
 
 from wirestack.errors import MessageError
-from wirestack.messages import Answer, Request, request_bytes
+from wirestack.messages import Answer, Request, answer_bytes, request_bytes
 from wirestack.names import NameAsker, NameTable
 from wirestack.network import Network
 from wirestack.octets import fixed_number
@@ -175,9 +175,14 @@ class OriginRunTest(RunCase):
         other = self.session(one, 2)
         other.send(request_bytes(Request("GET", "/a", 1)))
         self.assertEqual([row[0] for row in self.talk(other, 10)], [404])
-        self.go(10)
-        stream.read()
-        self.assertTrue(stream.is_over())
+        # The other side ends its stream, and takes no notice of what still comes.
+        stream.send((1, 2, 3) * 300)
+        stream.close()
+        for _ in range(20):
+            self.go(1)
+            stream.read()
+        self.assertEqual(stream.state, "closed")
+        self.assertEqual(list(two.endpoint.streams), [other.stream.key()])
 
     def test_secrets_are_drawn_from_the_seed_on(self):
         one, two = self.build()
@@ -285,6 +290,80 @@ class ClientTest(RunCase):
         self.assertEqual((request.number, asked - begin, answer.shown(), answered - begin), (1, 0, (504, 1, (), ""), 244))
         self.net.settle(client.is_done)
         self.assertEqual((codes(client), len(opened)), ([504, 504], 8))
+        self.assertTrue(all(stream.closing for _, stream in opened))
+
+    def answering(self, host, answers):
+        """Let a host answer each request by a function of its session and the request."""
+        host.endpoint.listen()
+        sessions = []
+
+        class Run:
+            def tick(self):
+                stream = host.endpoint.accept()
+                if stream is not None:
+                    sessions.append(Session(host.endpoint, stream, 9, False))
+                for session in sessions:
+                    for request in session.tick():
+                        answers(session, request)
+
+        host.runs.append(Run())
+        return sessions
+
+    def test_answers_to_other_numbers_do_not_count(self):
+        one, two = self.build()
+
+        def answers(session, request):
+            for number in (request.number + 1, request.number, request.number + 2):
+                session.send(answer_bytes(Answer(200, number, (), str(number))))
+
+        self.answering(two, answers)
+        client = self.client(one, 2, Request("GET", "/a", 7), Request("GET", "/a", 9))
+        self.net.settle(client.is_done)
+        self.assertEqual([event[2].body for event in client.events], ["7", "9"])
+
+    def test_a_session_that_ends_with_its_answer(self):
+        one, two = self.build()
+
+        def answers(session, request):
+            session.send(answer_bytes(Answer(200, request.number)))
+            session.end()
+
+        self.answering(two, answers)
+        opened = self.opened(one)
+        client = self.client(one, 2, *[Request("GET", "/a", number) for number in range(6)])
+        self.net.settle(client.is_done)
+        self.assertEqual((codes(client), len(opened)), ([200] * 6, 6))
+        self.assertEqual([clock for clock, _ in opened[1:]], [event[3] for event in client.events[:-1]])
+
+    def test_a_session_that_the_other_side_ends_while_there_is_nothing_to_ask(self):
+        one, two = self.build()
+        sessions = self.answering(two, lambda session, request: session.send(answer_bytes(Answer(200, request.number))))
+        opened = self.opened(one)
+        client = self.client(one, 2, Request("GET", "/a", 1))
+        self.net.settle(client.is_done)
+        sessions[0].end()
+        self.go(8)
+        self.assertEqual((opened[0][1].state, len(opened)), ("closed", 1))
+        client.left.append(Request("GET", "/a", 2))
+        self.net.settle(client.is_done)
+        self.assertEqual((codes(client), len(opened)), ([200, 200], 2))
+
+    def test_a_session_is_ended_in_order(self):
+        one, two = self.build()
+        sessions = self.answering(two, lambda session, request: session.send(answer_bytes(Answer(200, request.number))))
+        client = self.client(one, 2, Request("GET", "/a", 1))
+        self.net.settle(client.is_done)
+        self.go(210)
+        sessions[0].seal.check_over()
+        self.assertEqual(sessions[0].fault, None)
+
+    def test_heads_of_requests_go_along(self):
+        one, two = self.build()
+        origin = self.serve(two)
+        client = self.client(one, 2, Request("PUT", "/a", 1, {"only": "3"}, "x"), Request("PUT", "/a", 2, {"only": "0"}, "y"),
+                             Request("GET", "/a", 3, {"unless": "1"}))
+        self.net.settle(client.is_done)
+        self.assertEqual((codes(client), origin.done), ([412, 201, 304], [("a", 2)]))
 
     def test_a_session_that_fails(self):
         one, two = self.build()
@@ -349,6 +428,7 @@ class ClientTest(RunCase):
         while not stream.closing:
             self.net.round()
         self.assertEqual(one.clock - answered, 201)
+        self.assertEqual(stream.fault, None)
         self.go(10)
         self.assertEqual((stream.state, two.endpoint.streams), ("closed", {}))
         client.left.append(Request("GET", "/b", 2))
@@ -452,9 +532,12 @@ class NameTargetTest(RunCase):
 
     def test_an_unknown_name_has_no_answer(self):
         hosts = self.build_names()
+        opened = self.opened(hosts[0])
         client = self.client(hosts[0], "server", Request("GET", "/a", 1), Request("GET", "/a", 2), names=self.names)
         self.net.settle(client.is_done)
         self.assertEqual((codes(client), [event[2].number for event in client.events]), ([504, 504], [1, 2]))
+        self.assertEqual(opened, [])
+        self.assertLess(client.events[1][3], 40)
 
     def test_a_name_that_is_kept_for_no_tick_ends_without_an_answer(self):
         hosts = self.build_names()
@@ -462,6 +545,7 @@ class NameTargetTest(RunCase):
         client = self.client(hosts[0], "server", Request("GET", "/a", 1), names=self.names)
         self.net.settle(client.is_done)
         self.assertEqual(codes(client), [504])
+        self.assertEqual(client.events[0][3] - client.events[0][1], 240)
 
     def test_the_askers_ticks_are_called(self):
         hosts = self.build_names()
@@ -556,6 +640,21 @@ class CacheRunTest(RunCase):
         other = self.client(hosts[0], 2, Request("GET", "/a", 1))
         self.go(20)
         self.assertEqual((codes(other), codes(client)), ([200], [201, 200]))
+
+    def test_requests_of_a_session_that_was_cut_off_are_not_asked_any_more(self):
+        hosts = self.build_cache(300)
+        other = self.session(hosts[0], 2)
+        self.talk(other, 10)
+        self.net.links[2].set_up(False)
+        self.client(hosts[2], 2, Request("GET", "/a", 1))
+        self.go(8)
+        other.send(request_bytes(Request("GET", "/b", 2)))
+        self.go(8)
+        other.stream.close()
+        self.go(8)
+        self.net.links[2].set_up(True)
+        self.go(100)
+        self.assertEqual([row[2][1] for row in self.asked], ["/a"])
 
     def test_a_change_goes_through_and_drops_the_entry(self):
         hosts = self.build_cache(500)

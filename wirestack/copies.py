@@ -174,7 +174,7 @@ class CopyStore:
         except StoreError:
             return
         if word == "answer":
-            self.hear_answer(source, number, key, siblings)
+            self.hear(source, number, siblings)
             return
         if word != "read":
             self.keep(key, siblings)
@@ -186,11 +186,6 @@ class CopyStore:
         found = merged(self.siblings(key) + siblings)
         if found != ():
             self.rows[key] = found
-
-    def hear_answer(self, source, number, key, siblings):
-        """Note an answer, unless it is of another deed."""
-        if number in self.deeds and self.deeds[number].key == key:
-            self.hear(source, number, siblings)
 
     def hear(self, source, number, siblings):
         """Note that a holder has answered a deed; it is told as an event when enough have, and ends when all have."""
@@ -223,7 +218,12 @@ class CopyStore:
 
 def ring_of(stores):
     """Return the ring of some hosts' addresses."""
-    return Ring([store.host.address for store in stores])
+    return Ring([address_in(one) for one in stores])
+
+
+def address_in(one):
+    """Return the address of a store's host; before there are stores, a host tells its own."""
+    return one.host.address if isinstance(one, CopyStore) else one.address
 
 
 def same_copies(stores, key):

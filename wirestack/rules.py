@@ -160,10 +160,11 @@ def rule_rows(rule, number, begin):
 def span_rows(name, span):
     """Return rows that ask whether a field is outside of a span; the place to go to then is still to be told."""
     low, high = span
-    field = ("size", 0) if name == "size" else ("load", 0) + FIELDS[name]
+    rows = [("size", 0) if name == "size" else ("load", 0) + FIELDS[name], ("set", 1, low)]
     if low == high:
-        return [field, ("set", 1, low), ("if", "!=", 0, 1)]
-    return [field, ("set", 1, low), ("if", "<", 0, 1), field, ("set", 1, high), ("if", "<", 1, 0)]
+        return rows + [("if", "!=", 0, 1)]
+    # The field stays in its register, so it is looked at once for both ends.
+    return rows + [("if", "<", 0, 1), ("set", 1, high), ("if", "<", 1, 0)]
 
 
 def most_rows(cell, most):

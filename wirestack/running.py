@@ -24,15 +24,14 @@ class Secrets:
 
 def is_usable(session):
     """Return True if a session can carry further requests."""
-    return session.fault is None and not session.ending and session.seal.state != "over"
+    return session.fault is None and session.seal.state != "over"
 
 
 def go_on_ending(session):
     """Let a session that was ended, or has failed, go on; return True while its stream is there."""
     session.tick()
-    if session.fault is not None:
-        # Nobody reads what comes any more, but the stream ends only when it was read.
-        session.stream.read()
+    # A session that has failed reads nothing any more, but its stream ends only when all was read.
+    session.stream.read()
     return session.stream.state not in ("failed", "closed")
 
 
@@ -52,8 +51,7 @@ class Served:
     def answer(self, answer):
         """Answer the first request that is not answered yet."""
         self.open_requests -= 1
-        if self.session.fault is None:
-            self.session.send(answer_bytes(answer))
+        self.session.send(answer_bytes(answer))
 
     def goes_on(self):
         """End this side if the other one has ended and all is answered; return True while the stream is there."""
@@ -94,7 +92,6 @@ class OriginRun:
     """An origin that answers the requests that come."""
 
     def __init__(self, host, origin, seed):
-        self.host = host
         self.origin = origin
         self.server = Server(host, Secrets(seed))
 
@@ -141,12 +138,9 @@ class Asker:
 
     def leave_session(self):
         """End the session; it goes on until the other side has ended, too."""
-        # What was not sent yet is asked again elsewhere, or counts as not answered.
-        self.session.waiting = []
         self.session.end()
-        if not self.session.is_sealed():
-            # The other side may never open the seal, and without it this side's end cannot be told as it should.
-            self.session.stream.close()
+        # The other side may never open the seal; then the stream ends all the same, and what waits is not sent.
+        self.session.stream.close()
         self.ending.append(self.session)
         self.session = None
 
@@ -225,7 +219,7 @@ class ClientRun(Asker):
         if self.names is not None:
             known, address = self.names.address_of(self.target)
         self.looked += 1
-        if known and address is not None:
+        if address is not None:
             self.address = address
             self.ask(self.signed(self.begun))
         elif known or self.looked > MOST_TIMES * MOST_WAIT:
@@ -288,7 +282,7 @@ class CacheRun:
             if answer is not None:
                 served.answer(answer)
                 continue
-            if self.asking is None and served not in blocked:
+            if self.asking is None:
                 self.ask(served, request)
             else:
                 left.append((served, request))

@@ -9,12 +9,12 @@ from wirestack.errors import FilterError
 from wirestack.filters import REGISTERS, check_rows
 
 MOST_SIZE = 4000
-TOP = 2 ** 32 - 1
-ALL = (0, TOP)
+TOP = 4294967295
+ALL = (0, 4294967295)
 # Where in a row the registers stand that it reads.
 READS = {"move": (2,), "op": (2, 3), "at": (2,), "if": (2, 3), "put": (2,)}
 # The greatest number that so many bytes hold.
-MOST_OF_BYTES = {1: 255, 2: 65535, 4: TOP}
+MOST_OF_BYTES = {1: 255, 2: 65535, 4: 4294967295}
 OPPOSITES = {"==": "!=", "!=": "==", "<": "<=", "<=": "<"}
 
 
