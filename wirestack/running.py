@@ -216,7 +216,7 @@ class ClientRun(Asker):
     def look_up(self):
         """Ask the request that was begun as soon as the address of the target is known."""
         known, address = (True, self.target)
-        if self.names is not None:
+        if isinstance(self.target, str):
             known, address = self.names.address_of(self.target)
         self.looked += 1
         if address is not None:
