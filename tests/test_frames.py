@@ -2,7 +2,7 @@ import random
 import unittest
 
 from wirestack.errors import OctetError
-from wirestack.frames import Deframer, frame_bytes, payloads_in, stuffed
+from wirestack.frames import Deframer, frame_bytes, frame_of_summed, payloads_in, stuffed
 from wirestack.octets import sum_bytes
 
 MARK = 126
@@ -50,7 +50,29 @@ class FrameBytesTest(unittest.TestCase):
             frame_bytes(payload + (1,))
 
 
+    def test_a_frame_of_bytes_that_end_in_their_sum_is_the_frame_of_these_bytes(self):
+        for payload in PAYLOADS:
+            summed = payload[:396] + sum_bytes(payload[:396])
+            self.assertEqual(frame_of_summed(summed), frame_bytes(summed))
+
+    def test_each_mark_and_escape_is_stuffed_byte_by_byte(self):
+        chance = random.Random(9)
+        for _ in range(300):
+            data = tuple(chance.choice((125, 126, 93, 94, 7)) for _ in range(chance.randrange(12)))
+            found = []
+            for byte in data:
+                found.extend((125, byte ^ 32) if byte in (125, 126) else (byte,))
+            self.assertEqual(stuffed(data), tuple(found))
+
+
 class DeframerTest(unittest.TestCase):
+    def test_a_deframer_is_between_frames_while_nothing_of_one_is_held(self):
+        deframer = Deframer()
+        for data, between in (((), True), ((5,), True), ((MARK,), True), ((7,), False), ((MARK,), True), ((ESCAPE,), False),
+                              ((MARK,), True)):
+            deframer.feed(data)
+            self.assertEqual(deframer.is_between(), between, data)
+
     def test_payloads_come_out_in_one_piece(self):
         for payload in PAYLOADS:
             self.assertEqual(payloads_in(frame_bytes(payload)), (payload,))

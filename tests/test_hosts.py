@@ -1,9 +1,10 @@
 import random
 import unittest
 
+from wirestack.errors import FilterError
 from wirestack.filters import run_filter
 from wirestack.frames import frame_bytes, payloads_in
-from wirestack.hosts import Host
+from wirestack.hosts import Host, KnownFrames
 from wirestack.network import Network
 from wirestack.packets import Packet, packet_bytes, read_packet
 from wirestack.routes import read_vector, vector_bytes
@@ -407,6 +408,84 @@ class Watcher:
     def lets(self, data, run):
         self.seen.append((data, run))
         return self.answer
+
+
+class KnownFramesTest(HostCase):
+    """Frames that a host of the network made are not read anew; what comes of them is the same."""
+
+    def made(self):
+        """Return the bytes of a frame from a to b that was made in the network, and what b's streams heard so far."""
+        self.build("ab")
+        self.learn()
+        self.empty()
+        self.hosts["a"].send(2, SEGMENTS, (7, 8))
+        return self.net.links[0].on_way[0][1], self.heard("b")
+
+    def test_a_known_frame_is_found_as_long_as_it_is_not_forgotten(self):
+        known = KnownFrames()
+        rows = [frame(Packet(1, 2, 16, number, 0, 1, (SEGMENTS,) * 20)) for number in range(1300)]
+        self.assertIsNone(known.find(rows[0]))
+        for number, data in enumerate(rows):
+            known.note(data, (number,), number)
+            self.assertEqual(known.find(data), (data, (number,), number))
+            self.assertIsNone(known.find(data[:-1]))
+            self.assertIsNone(known.find(data[:20] + (9,) + data[21:]))
+            self.assertLessEqual(len(known.rows), 500)
+        self.assertIsNone(known.find(rows[0]))
+
+    def test_a_frame_that_comes_twice_is_taken_twice(self):
+        data, found = self.made()
+        for _ in range(2):
+            self.hosts["b"].receive(1, data)
+        self.assertEqual((found, self.hosts["b"].damaged), ([(1, (7, 8))] * 2, 0))
+
+    def test_a_frame_that_is_not_known_is_read(self):
+        data, found = self.made()
+        self.net.known.rows.clear()
+        self.hosts["b"].receive(1, data)
+        self.assertEqual((found, self.hosts["b"].damaged), ([(1, (7, 8))], 0))
+
+    def test_a_known_frame_behind_the_beginning_of_another_one(self):
+        data, found = self.made()
+        host = self.hosts["b"]
+        host.receive(1, (126, 5, 6, 7))
+        host.receive(1, data)
+        self.assertEqual((found, host.damaged), ([(1, (7, 8))], 1))
+        host.receive(1, data[:5])
+        host.receive(1, data[5:])
+        self.assertEqual((found, host.damaged), ([(1, (7, 8))] * 2, 1))
+
+    def test_a_bent_frame_is_damaged(self):
+        data, found = self.made()
+        for place in range(1, len(data) - 1):
+            self.hosts["b"].receive(1, data[:place] + ((data[place] + 1) % 120,) + data[place + 1:])
+            self.assertEqual(self.hosts["b"].damaged, place)
+        self.assertEqual(found, [])
+
+    def test_a_guard_sees_known_frames_too(self):
+        data, found = self.made()
+        guard = Watcher(False)
+        self.hosts["b"].guard_by(guard)
+        self.hosts["b"].receive(1, data)
+        guard.answer = True
+        self.hosts["b"].receive(1, data)
+        self.assertEqual(found, [(1, (7, 8))])
+        self.assertEqual(guard.seen, [(payload, run_filter) for payload in payloads_in(data)] * 2)
+
+    def test_a_guards_rows_are_looked_at_again_once_they_are_others(self):
+        data, found = self.made()
+        guard = Guard(compiled(parse_rules("accept")))
+        self.hosts["b"].guard_by(guard)
+        self.hosts["b"].receive(1, data)
+        self.assertEqual(len(found), 1)
+        for rows, word in (((), "no rows"), ((("jump", 0),), "jump"), ((("go",),), "no row")):
+            guard.rows = rows
+            with self.assertRaises(FilterError) as caught:
+                self.hosts["b"].receive(1, data)
+            self.assertEqual(caught.exception.word, word)
+        guard.rows = (("drop",),)
+        self.hosts["b"].receive(1, data)
+        self.assertEqual((len(found), guard.accepted, guard.dropped), (1, 1, 1))
 
 
 class GuardTest(HostCase):

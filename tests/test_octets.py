@@ -4,7 +4,7 @@ import zlib
 
 from wirestack.errors import OctetError
 from wirestack.octets import (LETTERS, Reader, blob_bytes, bytes_text, check_bytes, fixed_bytes, fixed_number,
-                              natural_bytes, sum_bytes, text_bytes)
+                              natural_bytes, sum_bytes, sum_of_summed, text_bytes)
 
 
 def read_number(data):
@@ -130,6 +130,20 @@ class SumTest(unittest.TestCase):
                 other = data[:place] + ((data[place] + change) % 256,) + data[place + 1:]
                 self.assertNotEqual(sum_bytes(other), sum_bytes(data))
         self.assertNotEqual(sum_bytes(data[::-1]), sum_bytes(data))
+
+
+    def test_the_sum_of_summed_bytes_is_that_of_all_of_them(self):
+        chance = random.Random(6)
+        rows = [(), (0,), (255,) * 400] + [tuple(chance.randrange(256) for _ in range(chance.randrange(90))) for _ in range(200)]
+        for data in rows:
+            summed = data + sum_bytes(data)
+            self.assertEqual(sum_of_summed(summed), sum_bytes(summed))
+            # The same, by remainders all the way.
+            first, second = 1, 0
+            for byte in summed:
+                first = (first + byte) % 65521
+                second = (second + first) % 65521
+            self.assertEqual(sum_bytes(summed), (second // 256, second % 256, first // 256, first % 256))
 
 
 class CheckTest(unittest.TestCase):

@@ -183,6 +183,9 @@ class CopyStore:
 
     def keep(self, key, siblings):
         """Keep siblings of a key beside those that are kept, as far as they are not known."""
+        # Most of what is told is kept already.
+        if siblings == self.siblings(key):
+            return
         found = merged(self.siblings(key) + siblings)
         if found != ():
             self.rows[key] = found

@@ -27,7 +27,10 @@ def joined_counts(one, other):
 def knows(one, other):
     """Return True if counts know all that others know."""
     found = dict(one)
-    return all([found.get(address, 0) >= number for address, number in other])
+    for address, number in other:
+        if found.get(address, 0) < number:
+            return False
+    return True
 
 
 def relation(one, other):
@@ -35,6 +38,11 @@ def relation(one, other):
     if knows(one, other):
         return "same" if knows(other, one) else "newer"
     return "older" if knows(other, one) else "apart"
+
+
+def is_newer(one, other):
+    """Return True if counts know all that others know, and more."""
+    return knows(one, other) and not knows(other, one)
 
 
 def text_order(text):
@@ -51,9 +59,11 @@ def merged(rows):
     for counts, text in rows:
         if counts not in texts or text_order(text) < text_order(texts[counts]):
             texts[counts] = text
+    if len(texts) == 1:
+        return tuple(texts.items())
     found = []
     for counts in sorted(texts):
-        if not any([relation(other, counts) == "newer" for other in texts]):
+        if not any([is_newer(other, counts) for other in texts]):
             found.append((counts, texts[counts]))
     return tuple(found)
 

@@ -107,10 +107,12 @@ class Run:
     def step(self, row):
         """Carry out a row that says nothing yet, and go on to the next one."""
         word = row[0]
-        if word in ("need", "if", "jump"):
+        if word in ("if", "need", "jump"):
             self.number = row[-1] if self.jumps(row) else self.number + 1
             return
-        if word == "put":
+        if word == "set":
+            self.registers[row[1]] = row[2]
+        elif word == "put":
             self.cells[row[1]] = self.number_in(row[2])
         elif word == "op":
             self.registers[row[2]] = reckoned(row[1], self.number_in(row[2]), self.number_in(row[3]))
@@ -120,23 +122,21 @@ class Run:
 
     def jumps(self, row):
         """Return True if a row leads to the row that it names."""
-        if row[0] == "need":
-            return len(self.data) < row[1]
         if row[0] == "if":
             return holds(row[1], self.number_in(row[2]), self.number_in(row[3]))
+        if row[0] == "need":
+            return len(self.data) < row[1]
         return True
 
     def worth(self, row):
         """Return the number that a row puts into its first register."""
         word = row[0]
-        if word == "set":
-            return row[2]
+        if word == "load":
+            return self.bytes_at(row[2], row[3])
         if word == "move":
             return self.number_in(row[2])
         if word == "size":
             return len(self.data)
-        if word == "load":
-            return self.bytes_at(row[2], row[3])
         if word == "at":
             return self.bytes_at(self.number_in(row[2]), row[3])
         return self.cells[row[2]]
@@ -145,6 +145,11 @@ class Run:
 def run_filter(rows, data, cells):
     """Return ("accept" or "drop", the steps) of a filter over a packet's bytes; the cells, a list, may change."""
     check_rows(rows)
+    return run_rows(rows, data, cells)
+
+
+def run_rows(rows, data, cells):
+    """Return what run_filter returns, of rows that are known to be a filter."""
     run = Run(data, cells)
     steps = 0
     while run.number < len(rows):

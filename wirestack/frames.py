@@ -1,24 +1,36 @@
 """Frames: payloads in a row of bytes, with marks around them and a checksum."""
 
 from wirestack.errors import OctetError
-from wirestack.octets import sum_bytes
+from wirestack.octets import sum_bytes, sum_of_summed
 
 MARK = 126
 ESCAPE = 125
 FLIPPED_BIT = 32
 MOST_PAYLOAD = 400
 SUM_SIZE = 4
+# One byte more than a frame may have is enough to tell later that it is too long.
+MOST_HELD = MOST_PAYLOAD + SUM_SIZE + 1
 
 
 def stuffed(data):
     """Return bytes in which marks and escapes are an escape and the byte with one bit flipped."""
+    # What stands for an escape holds one, too, so escapes come first.
+    return escaped_bytes(escaped_bytes(tuple(data), ESCAPE), MARK)
+
+
+def escaped_bytes(data, sign):
+    """Return bytes in which each byte of one kind is an escape and the byte with one bit flipped."""
+    many = data.count(sign)
+    if many == 0:
+        return data
     found = []
-    for byte in data:
-        if byte in (MARK, ESCAPE):
-            found.extend((ESCAPE, byte ^ FLIPPED_BIT))
-        else:
-            found.append(byte)
-    return tuple(found)
+    begin = 0
+    for _ in range(many):
+        end = data.index(sign, begin)
+        found.extend(data[begin:end])
+        found.extend((ESCAPE, sign ^ FLIPPED_BIT))
+        begin = end + 1
+    return tuple(found) + data[begin:]
 
 
 def frame_bytes(payload):
@@ -26,6 +38,11 @@ def frame_bytes(payload):
     if len(payload) > MOST_PAYLOAD:
         raise OctetError("a payload is too long")
     return (MARK,) + stuffed(payload + sum_bytes(payload)) + (MARK,)
+
+
+def frame_of_summed(payload):
+    """Return the bytes of a payload, of at most 400 bytes, that ends in its own checksum, in a frame."""
+    return (MARK,) + stuffed(payload + sum_of_summed(payload)) + (MARK,)
 
 
 class Deframer:
@@ -40,14 +57,29 @@ class Deframer:
     def feed(self, data):
         """Return the payloads of the frames that end within bytes; empty and damaged ones are left out."""
         found = []
-        for byte in data:
-            if byte == MARK:
-                payload = self.end_frame()
-                if payload is not None:
-                    found.append(payload)
-            else:
-                self.take(byte)
+        begin = 0
+        for _ in range(data.count(MARK)):
+            end = data.index(MARK, begin)
+            payload = self.end_frame(data[begin:end])
+            if payload is not None:
+                found.append(payload)
+            begin = end + 1
+        self.take_all(data[begin:])
         return tuple(found)
+
+    def take_all(self, data):
+        """Hold bytes of a frame, none of which is a mark."""
+        if self.held is None:
+            return
+        rest = data
+        while rest != ():
+            if self.escaped or rest[0] == ESCAPE:
+                self.take(rest[0])
+                rest = rest[1:]
+            else:
+                end = rest.index(ESCAPE) if ESCAPE in rest else len(rest)
+                self.held.extend(rest[:min(end, MOST_HELD - len(self.held))])
+                rest = rest[end:]
 
     def take(self, byte):
         """Hold a byte of a frame."""
@@ -56,18 +88,20 @@ class Deframer:
         if byte == ESCAPE and not self.escaped:
             self.escaped = True
             return
-        # One byte more than a frame may have is enough to tell later that it is too long.
-        if len(self.held) <= MOST_PAYLOAD + SUM_SIZE:
+        if len(self.held) < MOST_HELD:
             self.held.append(byte ^ FLIPPED_BIT if self.escaped else byte)
         self.escaped = False
 
-    def end_frame(self):
-        """Return the payload of the frame that a mark ends, None if there is none; the mark begins the next one."""
+    def end_frame(self, data):
+        """Return the payload of the frame that ends behind bytes, None for none; the mark begins the next one."""
+        if self.held is None:
+            self.begin()
+            return None
+        self.take_all(data)
         held = self.held
         escaped = self.escaped
-        self.held = []
-        self.escaped = False
-        if held is None or (held == [] and not escaped):
+        self.begin()
+        if held == [] and not escaped:
             return None
         payload = tuple(held[:-SUM_SIZE])
         told = tuple(held[-SUM_SIZE:])
@@ -75,6 +109,15 @@ class Deframer:
             self.damaged += 1
             return None
         return payload
+
+    def begin(self):
+        """Begin a frame behind a mark."""
+        self.held = []
+        self.escaped = False
+
+    def is_between(self):
+        """Return True if nothing of a frame came yet."""
+        return not self.held and not self.escaped
 
 
 def payloads_in(data):

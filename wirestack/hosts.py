@@ -2,7 +2,7 @@
 
 from wirestack.errors import PacketError, RouteError
 from wirestack.filters import run_filter
-from wirestack.frames import MOST_PAYLOAD, Deframer, frame_bytes
+from wirestack.frames import MOST_PAYLOAD, Deframer, frame_of_summed
 from wirestack.octets import natural_bytes
 from wirestack.packets import MOST_HOPS, Assembler, Packet, packet_bytes, parts_of, read_packet
 from wirestack.routes import Routes, read_vector, vector_bytes
@@ -16,14 +16,46 @@ COPIES = 4
 TELLS_EACH = 3
 # The bytes of a packet but its number and its part: those of fixed size, two of the part's length, and the checksum.
 PACKET_AROUND = 14
+# So many bytes of a body have place in a frame whatever the packet's number.
+SMALL_BODY = 370
+MOST_KNOWN = 500
+KEY_SIZE = 12
 
 
 class Port:
-    """A neighbour's address, and the link to it."""
+    """A neighbour's address, the link to it, and the ways that were told over it last, also as bytes."""
 
     def __init__(self, neighbour, link):
         self.neighbour = neighbour
         self.link = link
+        self.vector = None
+        self.data = ()
+
+    def bytes_of(self, vector):
+        """Return the bytes of ways; those that were told last are kept, as they mostly are told again."""
+        if vector != self.vector:
+            self.data = vector_bytes(vector)
+            self.vector = vector
+        return self.data
+
+
+class KnownFrames:
+    """Frames that were made, with the payload and the packet in each: one that comes unchanged is not read anew."""
+
+    def __init__(self):
+        self.rows = {}
+
+    def note(self, data, payload, packet):
+        """Note what is in a frame; when there are many, older ones are forgotten."""
+        if len(self.rows) >= MOST_KNOWN:
+            self.rows = {}
+        # The first bytes mostly tell which packet it is, and are found faster than all.
+        self.rows[data[:KEY_SIZE]] = (data, payload, packet)
+
+    def find(self, data):
+        """Return (bytes, payload, packet) of a frame's bytes, None if they are not known."""
+        row = self.rows.get(data[:KEY_SIZE])
+        return row if row is not None and row[0] == data else None
 
 
 class Host:
@@ -36,11 +68,15 @@ class Host:
         self.ports = {}
         self.deframers = {}
         self.routes = Routes(address)
+        # The ways that were heard last, as (bytes, rows) by neighbour.
+        self.heard = {}
         self.endpoint = Endpoint(address)
         self.assembler = Assembler()
         self.runs = []
         # Who takes bodies of further classes, by class.
         self.services = {}
+        # A network's hosts share what they know of frames.
+        self.known = KnownFrames()
         self.guard = None
         self.last_number = 0
         self.damaged = 0
@@ -80,30 +116,54 @@ class Host:
 
     def send_over(self, port, packet):
         """Send a packet over a link, in parts where the link's room, or a frame, is smaller."""
+        if len(packet.body) <= min(port.link.room, SMALL_BODY):
+            self.send_part(port, packet, packet_bytes(packet))
+            return
         most = MOST_PAYLOAD - PACKET_AROUND - len(natural_bytes(packet.number))
         parts = parts_of(packet, min(port.link.room, most))
-        for data in [frame_bytes(packet_bytes(part)) for part in parts]:
-            port.link.send(self.name, data)
+        for part, payload in [(part, packet_bytes(part)) for part in parts]:
+            self.send_part(port, part, payload)
+
+    def send_part(self, port, part, payload):
+        """Send a packet that has place in a frame, with its bytes, over a link."""
+        data = frame_of_summed(payload)
+        self.known.note(data, payload, part)
+        port.link.send(self.name, data)
 
     def receive(self, neighbour, data):
         """Take bytes from a neighbour's link into account."""
         if neighbour not in self.deframers:
             self.deframers[neighbour] = Deframer()
         deframer = self.deframers[neighbour]
+        known = self.known.find(data)
+        if known is not None and deframer.is_between():
+            deframer.begin()
+            _, payload, packet = known
+            if self.is_let(payload):
+                self.receive_packet(packet)
+            return
         damaged = deframer.damaged
         payloads = deframer.feed(data)
         self.damaged += deframer.damaged - damaged
         for payload in payloads:
-            if self.guard is None or self.guard.lets(payload, run_filter):
-                self.receive_packet(payload)
+            if self.is_let(payload):
+                self.read(payload)
 
-    def receive_packet(self, payload):
-        """Take a packet's bytes into account: it is for this host, or passed on."""
+    def is_let(self, payload):
+        """Return True if no guard is there, or it lets a packet's bytes go on."""
+        return self.guard is None or self.guard.lets(payload, run_filter)
+
+    def read(self, payload):
+        """Take a packet's bytes into account."""
         try:
             packet = read_packet(payload)
         except PacketError:
             self.damaged += 1
             return
+        self.receive_packet(packet)
+
+    def receive_packet(self, packet):
+        """Take a packet into account: it is for this host, or passed on."""
         if packet.target == self.address:
             self.take(packet)
         else:
@@ -137,16 +197,21 @@ class Host:
         # Packets can be sent straight over a port alone, so no other host is a way.
         if source not in self.ports:
             return
-        try:
-            vector = read_vector(data)
-        except RouteError:
-            return
+        known, vector = self.heard.get(source, (None, ()))
+        # Neighbours mostly tell what they told before.
+        if data != known:
+            try:
+                vector = read_vector(data)
+            except RouteError:
+                return
+            self.heard[source] = (data, vector)
         self.routes.hear(source, vector)
 
     def tick(self):
         """Let time pass: tell neighbours the ways, let streams and what runs here go on."""
         self.clock += 1
-        self.assembler.tick()
+        if self.assembler.waiting != {}:
+            self.assembler.tick()
         self.routes.tick()
         if self.clock == 1 or self.clock % TELLS_EACH == 0:
             for port in list(self.ports.values()):
@@ -159,5 +224,4 @@ class Host:
 
     def tell(self, port):
         """Send a neighbour the ways, straight over its link."""
-        data = vector_bytes(self.routes.vector(port.neighbour))
-        self.send_over(port, self.new_packet(port.neighbour, WAYS, data))
+        self.send_over(port, self.new_packet(port.neighbour, WAYS, port.bytes_of(self.routes.vector(port.neighbour))))

@@ -1,7 +1,7 @@
 """Networks: hosts and links that go on by choices, or in fair rounds."""
 
 from wirestack.errors import HostError
-from wirestack.hosts import Host
+from wirestack.hosts import Host, KnownFrames
 from wirestack.links import Link
 
 MOST_HOSTS = 30
@@ -19,12 +19,14 @@ class Network:
         self.hosts = {}
         self.links = []
         self.time = 0
+        self.known = KnownFrames()
 
     def add_host(self, name):
         """Add a host and return it; its address is one more than the last one's; raise HostError if it is there."""
         if name in self.hosts or len(self.hosts) >= MOST_HOSTS:
             raise HostError("there is no place for the host")
         host = Host(name, len(self.hosts) + 1)
+        host.known = self.known
         self.hosts[name] = host
         return host
 

@@ -11,6 +11,11 @@ def natural_bytes(number):
     """Return a number from 0 on as bytes of seven bits, the lowest first, all but the last raised by 128."""
     if not 0 <= number < MOST_NUMBER:
         raise OctetError("a number is out of bounds")
+    # Most numbers have one byte or two, so those are told without a loop.
+    if number < 128:
+        return (number,)
+    if number < 16384:
+        return (128 + number % 128, number // 128)
     found = []
     rest = number
     while rest >= 128:
@@ -22,6 +27,8 @@ def natural_bytes(number):
 
 def fixed_bytes(number, many):
     """Return a number as so many bytes, the highest first; raise OctetError if it does not fit."""
+    if many == 2 and 0 <= number < 65536:
+        return (number // 256, number % 256)
     found = []
     rest = number
     for _ in range(many):
@@ -43,14 +50,15 @@ def fixed_number(data):
 
 def text_bytes(text):
     """Return a text as bytes, a character's place in the order of characters; raise OctetError for others."""
-    if any(sign not in LETTERS for sign in text):
+    found = tuple([LETTERS.find(sign) for sign in text])
+    if -1 in found:
         raise OctetError("a character cannot be told")
-    return tuple([LETTERS.find(sign) for sign in text])
+    return found
 
 
 def bytes_text(data):
     """Return the text of bytes; raise OctetError for bytes that are no character's."""
-    if any(not 0 <= byte < len(LETTERS) for byte in data):
+    if len(data) > 0 and (min(data) < 0 or max(data) >= len(LETTERS)):
         raise OctetError("a byte is no character's")
     return "".join([LETTERS[byte] for byte in data])
 
@@ -60,9 +68,19 @@ def sum_bytes(data):
     first = 1
     second = 0
     for byte in data:
-        first = (first + byte) % SUM_BASE
-        second = (second + first) % SUM_BASE
-    return fixed_bytes(second, 2) + fixed_bytes(first, 2)
+        first += byte
+        second += first
+    # The remainders of the whole sums are those of sums that were kept small all the way.
+    return fixed_bytes(second % SUM_BASE, 2) + fixed_bytes(first % SUM_BASE, 2)
+
+
+def sum_of_summed(data):
+    """Return the checksum of bytes that end in their own checksum, which tells the sums up to there."""
+    one, two, three, four = data[-4:]
+    first = 256 * three + four
+    second = 256 * one + two + 4 * first + 4 * one + 3 * two + 2 * three + four
+    first = first + one + two + three + four
+    return fixed_bytes(second % SUM_BASE, 2) + fixed_bytes(first % SUM_BASE, 2)
 
 
 def check_bytes(data):
@@ -91,6 +109,11 @@ class Reader:
 
     def natural(self):
         """Move past a number and return it; raise OctetError for one that is not told in the only way."""
+        begin = self.place
+        # Most numbers have one byte alone.
+        if begin < len(self.data) and self.data[begin] < 128:
+            self.place = begin + 1
+            return self.data[begin]
         found = 0
         weight = 1
         byte = 128

@@ -1,11 +1,12 @@
 """Packets: bytes from an address to another one, in parts where a link takes no more, and put together again."""
 
 from wirestack.errors import OctetError, PacketError
-from wirestack.octets import Reader, blob_bytes, fixed_bytes, fixed_number, natural_bytes, sum_bytes
+from wirestack.octets import Reader, natural_bytes, sum_bytes
 
 MOST_HOPS = 16
 MOST_BODY = 2000
 MOST_WAIT = 40
+TWO_BYTES = 65536
 
 
 class Packet:
@@ -35,12 +36,17 @@ def packet_bytes(packet):
     """Return the bytes of a packet, with a checksum at the end; raise PacketError for one that cannot be told."""
     if not 0 <= packet.hops <= MOST_HOPS:
         raise PacketError("a packet has too many hops")
+    source, target, place, last = packet.source, packet.target, packet.place, packet.last
+    # A packet's numbers are told here straight, as each packet goes this way, often over several links.
+    if not 0 <= source < TWO_BYTES or not 0 <= target < TWO_BYTES or not 0 <= place < TWO_BYTES or not 0 <= last < 256:
+        raise PacketError("no packet")
     try:
-        ends = fixed_bytes(packet.source, 2) + fixed_bytes(packet.target, 2) + fixed_bytes(packet.hops, 1)
-        part = natural_bytes(packet.number) + fixed_bytes(packet.place, 2) + fixed_bytes(packet.last, 1)
-        data = ends + part + blob_bytes(packet.body)
+        number = natural_bytes(packet.number)
     except OctetError:
         raise PacketError("no packet")
+    ends = (source // 256, source % 256, target // 256, target % 256, packet.hops % 256)
+    part = (place // 256, place % 256, last % 256) + natural_bytes(len(packet.body))
+    data = ends + number + part + packet.body
     return data + sum_bytes(data)
 
 
@@ -50,18 +56,16 @@ def read_packet(data):
         raise PacketError("a packet is damaged")
     reader = Reader(data[:-4])
     try:
-        source = fixed_number(reader.take(2))
-        target = fixed_number(reader.take(2))
-        hops = fixed_number(reader.take(1))
+        ends = reader.take(5)
         number = reader.natural()
-        place = fixed_number(reader.take(2))
-        last = fixed_number(reader.take(1))
+        part = reader.take(3)
         body = reader.blob()
     except OctetError:
         raise PacketError("a packet is damaged")
-    if not reader.at_end() or last > 1 or hops > MOST_HOPS:
+    if not reader.at_end() or part[2] > 1 or ends[4] > MOST_HOPS:
         raise PacketError("a packet is damaged")
-    return Packet(source, target, hops, number, place, last, body)
+    source, target, place = 256 * ends[0] + ends[1], 256 * ends[2] + ends[3], 256 * part[0] + part[1]
+    return Packet(source, target, ends[4], number, place, part[2], body)
 
 
 def parts_of(packet, room):
@@ -114,6 +118,9 @@ class Assembler:
             return None
         key = (packet.source, packet.number)
         if key not in self.waiting:
+            # Most bodies come whole, and wait for nothing.
+            if packet.place == 0 and packet.last == 1:
+                return tuple(packet.body)
             self.waiting[key] = PartRow()
         row = self.waiting[key]
         row.put(packet)
@@ -135,13 +142,14 @@ def joined(parts, size):
     """Return the body of parts by place, None if the size is not known or bytes are missing or told in two ways."""
     if size is None:
         return None
-    told = {}
-    for place in parts:
-        for step, byte in enumerate(parts[place]):
-            if told.get(place + step, byte) != byte:
-                return None
-            told[place + step] = byte
+    found = ()
+    for place in sorted(parts):
+        part = parts[place]
+        if place > len(found):
+            return None
+        both = found[place:place + len(part)]
+        if both != part[:len(both)]:
+            return None
+        found = found + part[len(both):]
     # Bytes behind the end that the last part tells are against what that part told.
-    if sorted(told) != list(range(size)):
-        return None
-    return tuple([told[place] for place in range(size)])
+    return found if len(found) == size else None

@@ -42,16 +42,16 @@ class Routes:
 
     def vector(self, neighbour):
         """Return (address, distance) rows for a neighbour, ascending: what is reached by it is told as too far."""
-        found = [(self.address, 0)]
-        for address, row in self.rows.items():
-            found.append((address, FAR if row.neighbour == neighbour else row.distance))
-        return tuple(sorted(found))
+        rows = [(at, FAR if row.neighbour == neighbour else row.distance) for at, row in self.rows.items()]
+        rows.append((self.address, 0))
+        return tuple(sorted(rows))
 
     def hear(self, neighbour, vector):
         """Take a neighbour's rows into account; return whether something changed."""
         changed = False
         for address, told in vector:
-            if address != self.address and self.hear_row(neighbour, address, min(told + 1, FAR)):
+            distance = told + 1 if told < FAR else FAR
+            if address != self.address and self.hear_row(neighbour, address, distance):
                 changed = True
         return changed
 
@@ -64,10 +64,13 @@ class Routes:
         row = self.rows[address]
         if row.neighbour != neighbour and distance >= row.distance:
             return False
+        changed = row.neighbour != neighbour or row.distance != distance
+        row.neighbour = neighbour
+        row.distance = distance
         # That an address is too far is no news of it: such a row ages on, or it would never be dropped.
-        fresh = Row(neighbour, distance, 0 if distance < FAR else row.age)
-        self.rows[address] = fresh
-        return fresh.shown() != row.shown()
+        if distance < FAR:
+            row.age = 0
+        return changed
 
     def lose(self, neighbour):
         """Forget the ways that lead by a neighbour: they are too far."""

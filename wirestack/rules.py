@@ -6,6 +6,7 @@ packet meets decides; the last line has no conditions.
 """
 
 from wirestack.errors import FilterError
+from wirestack.filters import check_rows, run_filter, run_rows
 from wirestack.octets import fixed_number
 
 CONDITIONS = ("from", "to", "hops", "size", "most")
@@ -179,14 +180,23 @@ class Guard:
     def __init__(self, rows):
         self.rows = rows
         self.cells = [0] * 8
+        # The rows that were looked at last.
+        self.checked = None
         self.accepted = 0
         self.dropped = 0
 
     def lets(self, data, run):
         """Return True if a packet's bytes go on; run is a function of rows, bytes and cells."""
-        word, _ = run(self.rows, data, self.cells)
+        word, _ = self.run_checked(data) if run == run_filter else run(self.rows, data, self.cells)
         if word == "accept":
             self.accepted += 1
         else:
             self.dropped += 1
         return word == "accept"
+
+    def run_checked(self, data):
+        """Return what run_filter returns; rows that are known to be a filter are not looked at for each packet."""
+        if self.rows != self.checked:
+            check_rows(self.rows)
+            self.checked = self.rows
+        return run_rows(self.rows, data, self.cells)

@@ -48,18 +48,17 @@ def mask(key, serial, many):
     found = []
     for _ in range(many):
         number = STEP * number % PRIME
-        found.append(number // 65536 % 256)
+        found.append(number >> 16 & 255)
     return tuple(found)
 
 
 def tag_of(key, serial, data):
     """Return the tag of bytes: their sum weighed by powers of a key from the second on, the number's by the first."""
-    total = (serial + 1) * key % PRIME
-    power = key
-    for byte in data:
-        power = power * key % PRIME
-        total = (total + (byte + 1) * power) % PRIME
-    return fixed_bytes(total, TAG_SIZE)
+    total = 0
+    # From the last byte on, each step raises the power of all that came before it.
+    for byte in data[::-1]:
+        total = (total + byte + 1) * key % PRIME
+    return fixed_bytes((total + serial + 1) * key % PRIME, TAG_SIZE)
 
 
 def xored(data, other):

@@ -65,10 +65,16 @@ class Session:
         """Take what came into account; return the messages that are complete, in order."""
         if self.fault is not None:
             return ()
-        found = self.take(self.stream.read())
+        data = self.stream.read()
+        # Where nothing came, nothing can have changed.
+        found = self.take(data) if data != () or self.is_damaged() else ()
         if self.fault is None:
             self.look_at_stream()
         return found
+
+    def is_damaged(self):
+        """Return True if what came is known to be damaged."""
+        return self.seal.state == "broken" or self.reader.fault is not None
 
     def look_at_stream(self):
         """Note that the stream has failed, or was cut off before the other side ended its messages."""

@@ -100,6 +100,8 @@ class Stream:
 
     def read(self, many=100000):
         """Return at most so many of the bytes that came, in order."""
+        if self.unread == ():
+            return ()
         found = self.unread[:many]
         self.unread = self.unread[many:]
         # Where the end was heard, the other side needs no more room.
@@ -207,15 +209,27 @@ class Stream:
             return not self.news
         return self.sent_place > self.told_place or (self.end_sent and not self.end_told)
 
+    def is_quiet(self):
+        """Return True if nothing is due and nothing is awaited: the other side has heard all, and was told all."""
+        if self.news or self.to_send != () or self.state == "opening":
+            return False
+        return not self.closing or self.end_told
+
+    def has_sent_all(self):
+        """Return True if nothing is due: all was sent, the end, too, and nothing new is to be told."""
+        if self.news or (self.closing and not self.end_sent and not self.end_told):
+            return False
+        return self.sent_place == self.told_place + len(self.to_send)
+
     def tick(self):
         """Let time pass; return the segments that are sent: those due, or all again after a wait."""
-        if self.state == "failed":
+        if self.state == "failed" or self.is_quiet():
             return []
         if self.is_awaiting():
             self.waited += 1
             if self.waited >= self.wait:
                 return self.all_segments()
-        return self.due_segments()
+        return [] if self.has_sent_all() else self.due_segments()
 
     def all_segments(self):
         """Return all segments that were not heard yet, and wait longer; fail if they were sent again often enough."""
