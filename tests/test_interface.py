@@ -80,8 +80,9 @@ class InterfaceTest(unittest.TestCase):
 
     def objects(self):
         """Return an object of each class with fields, by the class's name."""
-        from wirestack import (cache, copies, errors, frames, links, messages, names, network, octets, origin, packets, ring,
-                               routes, rules, running, seals, sessions, streams)
+        from wirestack import (agreed, cache, certificates, copies, deltas, errors, frames, linkmaps, links, mail, messages,
+                               names, network, octets, origin, packets, queues, ring, routes, rules, running, seals, sessions,
+                               streams)
         net = network.Network()
         host = net.add_host("a")
         endpoint = host.endpoint
@@ -93,7 +94,11 @@ class InterfaceTest(unittest.TestCase):
                  errors.FilterError("jump"), rules.Rule("drop", {}), rules.Guard((("drop",),)), origin.Origin(),
                  cache.Entry("1", "", 2, 3), cache.Cache(), names.NameTable(host), names.NameAsker(host, 2),
                  running.OriginRun(host, origin.Origin(), 1), running.Asker(host, 2, 1),
-                 running.ClientRun(host, 2, 1, []), running.CacheRun(host, 2, 1), circle, copies.CopyStore(host, circle))
+                 running.ClientRun(host, 2, 1, []), running.CacheRun(host, 2, 1), circle, copies.CopyStore(host, circle),
+                 linkmaps.Statement(1, 1, ()), linkmaps.LinkMap(1), queues.Bucket(1, 1), queues.FairQueue(),
+                 mail.Mail(1, 1, "a@b", "c@d", ""), mail.Relay(host, "a", [], {}),
+                 certificates.Certificate("a", 1, "b", 1, 1, 1, 1, 1), deltas.Sums(1, 1, ()), agreed.Asking(1, 1, 1),
+                 agreed.Clock())
         return {one.__class__.__name__: one for one in found}
 
     def test_listed_fields_are_set_when_an_object_is_created(self):
@@ -125,7 +130,11 @@ class InterfaceTest(unittest.TestCase):
                              ("NameTable", "rows"), ("NameAsker", "kept asked"), ("ClientRun", "events left"),
                              ("Host", "name address clock endpoint routes runs guard services"), ("Network", "hosts links time"),
                              ("Guard", "rows cells accepted dropped"), ("Rule", "word spans most"), ("Ring", "addresses rows"),
-                             ("CopyStore", "host events rows")):
+                             ("CopyStore", "host events rows"), ("Statement", "address serial links"),
+                             ("LinkMap", "address serial statements ages"), ("Bucket", "saved"),
+                             ("FairQueue", "rows order credit"), ("Mail", "origin number sender target text passed word"),
+                             ("Relay", "boxes"), ("Certificate", "mark name below"), ("Sums", "rows"), ("Asking", "seen_time"),
+                             ("Clock", "seen_time owed")):
             for field in fields.split():
                 self.assertIn(field, vars(by_name[name]), name)
 

@@ -13,6 +13,8 @@ SEGMENTS = 1
 WAYS = 2
 NAMES = 3
 COPIES = 4
+MAIL = 5
+NEWS = 6
 TELLS_EACH = 3
 # The bytes of a packet but its number and its part: those of fixed size, two of the part's length, and the checksum.
 PACKET_AROUND = 14
