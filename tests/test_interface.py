@@ -80,9 +80,9 @@ class InterfaceTest(unittest.TestCase):
 
     def objects(self):
         """Return an object of each class with fields, by the class's name."""
-        from wirestack import (agreed, cache, certificates, copies, deltas, errors, frames, linkmaps, links, mail, messages,
-                               names, network, octets, origin, packets, queues, ring, routes, rules, running, seals, sessions,
-                               streams)
+        from wirestack import (agreed, balance, broker, cache, certificates, console, copies, deltas, errors, frames, linkmaps,
+                               links, mail, messages, names, network, octets, origin, packets, queues, ring, routes, rules,
+                               running, seals, sessions, streams, translate, zones)
         net = network.Network()
         host = net.add_host("a")
         endpoint = host.endpoint
@@ -98,7 +98,9 @@ class InterfaceTest(unittest.TestCase):
                  linkmaps.Statement(1, 1, ()), linkmaps.LinkMap(1), queues.Bucket(1, 1), queues.FairQueue(),
                  mail.Mail(1, 1, "a@b", "c@d", ""), mail.Relay(host, "a", [], {}),
                  certificates.Certificate("a", 1, "b", 1, 1, 1, 1, 1), deltas.Sums(1, 1, ()), agreed.Asking(1, 1, 1),
-                 agreed.Clock())
+                 agreed.Clock(), zones.Zone("a", 1), zones.Resolver(1, None), balance.Server("a", 1), translate.Flow(1, 1, 1, 1, 1),
+                 translate.Translator(1, [2]), broker.NewsRow(1), broker.Broker(host), broker.Follower(host, 1),
+                 console.Console())
         return {one.__class__.__name__: one for one in found}
 
     def test_listed_fields_are_set_when_an_object_is_created(self):
@@ -134,7 +136,10 @@ class InterfaceTest(unittest.TestCase):
                              ("LinkMap", "address serial statements ages"), ("Bucket", "saved"),
                              ("FairQueue", "rows order credit"), ("Mail", "origin number sender target text passed word"),
                              ("Relay", "boxes"), ("Certificate", "mark name below"), ("Sums", "rows"), ("Asking", "seen_time"),
-                             ("Clock", "seen_time owed")):
+                             ("Clock", "seen_time owed"), ("Zone", "name keeps rows below"), ("Resolver", "asked"),
+                             ("Server", "ahead fails rests_until load weight name"), ("Translator", "flows"),
+                             ("Flow", "opener number outer peer used"), ("Broker", "log"), ("Follower", "host news_read"),
+                             ("NewsRow", "things"), ("Console", "network")):
             for field in fields.split():
                 self.assertIn(field, vars(by_name[name]), name)
 

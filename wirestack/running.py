@@ -62,7 +62,7 @@ class Served:
         return self.session.stream.state not in ("failed", "closed")
 
 
-class Server:
+class Listener:
     """A host and the sessions that were opened to it, in order, with secrets drawn from a row."""
 
     def __init__(self, host, secrets):
@@ -93,13 +93,13 @@ class OriginRun:
 
     def __init__(self, host, origin, seed):
         self.origin = origin
-        self.server = Server(host, Secrets(seed))
+        self.listener = Listener(host, Secrets(seed))
 
     def tick(self):
         """Answer the requests that came."""
-        for served, request in self.server.requests():
+        for served, request in self.listener.requests():
             served.answer(self.origin.carry(request.heads.get("from", ""), request))
-        self.server.let_end()
+        self.listener.let_end()
 
 
 class Asker:
@@ -248,7 +248,7 @@ class CacheRun:
         self.host = host
         self.cache = Cache(most)
         self.asker = Asker(host, target, seed)
-        self.server = Server(host, self.asker.secrets)
+        self.listener = Listener(host, self.asker.secrets)
         # (session served, request) of requests that wait, in order, and of the one that the origin is asked.
         self.waiting = []
         self.asking = None
@@ -260,9 +260,9 @@ class CacheRun:
         answer = self.asker.tick()
         if answer is not None:
             self.take(answer)
-        self.waiting.extend(self.server.requests())
+        self.waiting.extend(self.listener.requests())
         self.go_on()
-        self.server.let_end()
+        self.listener.let_end()
 
     def take(self, answer):
         """Answer the request for which the origin was asked."""
