@@ -515,7 +515,7 @@ class ChanceTest(StoreCase):
             if event[1] == "write":
                 counts = event[5][0][0]
                 for other in events:
-                    if other[1:3] == ("read", event[2]) and other[3] >= event[4]:
+                    if other[1:3] == ("read", event[2]) and other[3] > event[4]:
                         self.assertTrue(knows(seen_by(other[5]), counts))
                 for store in self.stores:
                     if store.host.address in store.holders(event[2]):

@@ -13,11 +13,10 @@ from wirestack.running import CacheRun, ClientRun, OriginRun
 DIGITS = "0123456789"
 MOST_DIGITS = 4
 # How many words a line has at least and at most behind its first one; a text at the end has any number of words.
-ANY = 1000000
 MANY_WORDS = {"host": (1, 1), "link": (3, 3), "down": (2, 2), "up": (2, 2), "go": (1, 1), "finish": (0, 0),
-              "serve": (1, 1), "cache": (2, 2), "names": (1, 1), "name": (4, 4), "ask": (4, ANY), "ways": (1, 1),
-              "answers": (1, 1), "store": (1, 1), "guard": (2, ANY), "passed": (1, 1), "copies": (3, 8),
-              "write": (3, ANY), "read": (2, 2), "kept": (2, 2), "deeds": (1, 1)}
+              "serve": (1, 1), "cache": (2, 2), "names": (1, 1), "name": (4, 4), "ask": (4, 1000000), "ways": (1, 1),
+              "answers": (1, 1), "store": (1, 1), "guard": (2, 1000000), "passed": (1, 1), "copies": (3, 8),
+              "write": (3, 1000000), "read": (2, 2), "kept": (2, 2), "deeds": (1, 1)}
 SET_UPS = ("serve", "cache", "names", "name")
 DEEDS_OF_COPIES = ("write", "read", "kept", "deeds")
 # What a target begins with that is a host whose table of names is asked, and the name that it is asked for.
@@ -233,8 +232,8 @@ def answer_rows(client):
 
 def store_rows(origin):
     """Return what an origin has, by paths ascending."""
-    rows = sorted(origin.resources.items())
-    return tuple([f"{path} {version} {text}".strip(" ") for path, (version, text) in rows])
+    rows = [f"{path} {version} {text}" for path, (version, text) in sorted(origin.resources.items())]
+    return tuple([row.strip(" ") for row in rows])
 
 
 def texts_of(siblings):

@@ -8,8 +8,8 @@ ESCAPE = 125
 FLIPPED_BIT = 32
 MOST_PAYLOAD = 400
 SUM_SIZE = 4
-# One byte more than a frame may have is enough to tell later that it is too long.
-MOST_HELD = MOST_PAYLOAD + SUM_SIZE + 1
+# One byte more than a payload and its checksum have is enough to tell later that a frame is too long.
+MOST_HELD = 405
 
 
 def stuffed(data):
