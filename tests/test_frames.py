@@ -66,12 +66,15 @@ class FrameBytesTest(unittest.TestCase):
 
 
 class DeframerTest(unittest.TestCase):
-    def test_a_deframer_is_between_frames_while_nothing_of_one_is_held(self):
-        deframer = Deframer()
-        for data, between in (((), True), ((5,), True), ((MARK,), True), ((7,), False), ((MARK,), True), ((ESCAPE,), False),
-                              ((MARK,), True)):
+    def test_a_frame_can_be_skipped_while_no_other_one_has_begun(self):
+        for data, found in (((), True), ((5,), True), ((MARK,), True), ((MARK, 7), False), ((MARK, 7, MARK), True),
+                            ((MARK, ESCAPE), False), ((MARK, ESCAPE, MARK), True)):
+            deframer = Deframer()
             deframer.feed(data)
-            self.assertEqual(deframer.is_between(), between, data)
+            held = deframer.held
+            self.assertIs(deframer.skip_frame(), found, data)
+            self.assertEqual(deframer.held, [] if found else held)
+            self.assertEqual(deframer.feed(frame_bytes((3,))), ((3,),))
 
     def test_payloads_come_out_in_one_piece(self):
         for payload in PAYLOADS:

@@ -92,6 +92,8 @@ class CopyStore:
         self.last_written = {}
         self.last_number = 0
         self.turn = 0
+        self.last_message = None
+        self.last_data = ()
         host.add_service(COPIES, self)
 
     def siblings(self, key):
@@ -165,7 +167,12 @@ class CopyStore:
 
     def send(self, target, word, number, key, siblings):
         """Send a message to another host."""
-        self.host.send(target, COPIES, message_bytes(word, number, key, siblings))
+        message = (word, number, key, siblings)
+        # The holders of a key are mostly sent the same.
+        if message != self.last_message:
+            self.last_data = message_bytes(word, number, key, siblings)
+            self.last_message = message
+        self.host.send(target, COPIES, self.last_data)
 
     def take(self, source, data):
         """Take a message into account; one that is none is left out."""

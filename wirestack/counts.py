@@ -26,9 +26,13 @@ def joined_counts(one, other):
 
 def knows(one, other):
     """Return True if counts know all that others know."""
-    found = dict(one)
-    for address, number in other:
-        if found.get(address, 0) < number:
+    return is_known(dict(one), other)
+
+
+def is_known(table, counts):
+    """Return True if a table of counts knows all that counts know."""
+    for address, number in counts:
+        if table.get(address, 0) < number:
             return False
     return True
 
@@ -38,11 +42,6 @@ def relation(one, other):
     if knows(one, other):
         return "same" if knows(other, one) else "newer"
     return "older" if knows(other, one) else "apart"
-
-
-def is_newer(one, other):
-    """Return True if counts know all that others know, and more."""
-    return knows(one, other) and not knows(other, one)
 
 
 def text_order(text):
@@ -61,9 +60,12 @@ def merged(rows):
             texts[counts] = text
     if len(texts) == 1:
         return tuple(texts.items())
+    tables = {counts: dict(counts) for counts in texts}
     found = []
     for counts in sorted(texts):
-        if not any([is_newer(other, counts) for other in texts]):
+        above = [other for other in texts if other != counts and is_known(tables[other], counts)]
+        # Counts that know each other are the same, told in two ways.
+        if not any([not is_known(tables[counts], other) for other in above]):
             found.append((counts, texts[counts]))
     return tuple(found)
 

@@ -14,18 +14,18 @@ MOST_HELD = 405
 
 def stuffed(data):
     """Return bytes in which marks and escapes are an escape and the byte with one bit flipped."""
+    found = tuple(data)
     # What stands for an escape holds one, too, so escapes come first.
-    return escaped_bytes(escaped_bytes(tuple(data), ESCAPE), MARK)
+    if ESCAPE in found:
+        found = escaped_bytes(found, ESCAPE)
+    return escaped_bytes(found, MARK) if MARK in found else found
 
 
 def escaped_bytes(data, sign):
     """Return bytes in which each byte of one kind is an escape and the byte with one bit flipped."""
-    many = data.count(sign)
-    if many == 0:
-        return data
     found = []
     begin = 0
-    for _ in range(many):
+    for _ in range(data.count(sign)):
         end = data.index(sign, begin)
         found.extend(data[begin:end])
         found.extend((ESCAPE, sign ^ FLIPPED_BIT))
@@ -115,9 +115,12 @@ class Deframer:
         self.held = []
         self.escaped = False
 
-    def is_between(self):
-        """Return True if nothing of a frame came yet."""
-        return not self.held and not self.escaped
+    def skip_frame(self):
+        """Take a frame that came whole as read elsewhere; return False if another one has begun."""
+        if self.held or self.escaped:
+            return False
+        self.held = []
+        return True
 
 
 def payloads_in(data):

@@ -138,10 +138,9 @@ class Host:
             self.deframers[neighbour] = Deframer()
         deframer = self.deframers[neighbour]
         known = self.known.find(data)
-        if known is not None and deframer.is_between():
-            deframer.begin()
+        if known is not None and deframer.skip_frame():
             _, payload, packet = known
-            if self.is_let(payload):
+            if self.guard is None or self.is_let(payload):
                 self.receive_packet(packet)
             return
         damaged = deframer.damaged
@@ -220,9 +219,11 @@ class Host:
                 self.tell(port)
         for run in list(self.runs):
             run.tick()
-        self.endpoint.tick()
-        for target, data in self.endpoint.take_outbox():
-            self.send(target, SEGMENTS, data)
+        if self.endpoint.streams != {}:
+            self.endpoint.tick()
+        if self.endpoint.outbox != []:
+            for target, data in self.endpoint.take_outbox():
+                self.send(target, SEGMENTS, data)
 
     def tell(self, port):
         """Send a neighbour the ways, straight over its link."""

@@ -63,6 +63,13 @@ def bytes_text(data):
     return "".join([LETTERS[byte] for byte in data])
 
 
+def told_sums(first, second):
+    """Return the four bytes of a checksum by its two sums, which may have grown beyond 65521."""
+    one = first % SUM_BASE
+    two = second % SUM_BASE
+    return (two // 256, two % 256, one // 256, one % 256)
+
+
 def sum_bytes(data):
     """Return the checksum of bytes as four bytes: two sums by 65521, the first from 1 on, the second of the first's."""
     first = 1
@@ -70,8 +77,7 @@ def sum_bytes(data):
     for byte in data:
         first += byte
         second += first
-    # The remainders of the whole sums are those of sums that were kept small all the way.
-    return fixed_bytes(second % SUM_BASE, 2) + fixed_bytes(first % SUM_BASE, 2)
+    return told_sums(first, second)
 
 
 def sum_of_summed(data):
@@ -79,8 +85,7 @@ def sum_of_summed(data):
     one, two, three, four = data[-4:]
     first = 256 * three + four
     second = 256 * one + two + 4 * first + 4 * one + 3 * two + 2 * three + four
-    first = first + one + two + three + four
-    return fixed_bytes(second % SUM_BASE, 2) + fixed_bytes(first % SUM_BASE, 2)
+    return told_sums(first + one + two + three + four, second)
 
 
 def check_bytes(data):

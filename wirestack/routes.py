@@ -51,7 +51,11 @@ class Routes:
         changed = False
         for address, told in vector:
             distance = told + 1 if told < FAR else FAR
-            if address != self.address and self.hear_row(neighbour, address, distance):
+            row = self.rows.get(address)
+            # Mostly what was heard before is told again.
+            if row is not None and row.distance == distance < FAR and row.neighbour == neighbour:
+                row.age = 0
+            elif address != self.address and self.hear_row(neighbour, address, distance):
                 changed = True
         return changed
 
