@@ -88,6 +88,10 @@ class LoadTest(unittest.TestCase):
         for good in (True, False):
             balancer.note_end("a", good, 0)
             self.assertEqual(balancer.server("a").load, 0)
+        self.assertEqual([balancer.next_by_load(0) for _ in range(5)], ["a", "a", "b", "a", "b"])
+        for many in (2, 1, 0, 0):
+            balancer.note_end("a", True, 0)
+            self.assertEqual((balancer.server("a").load, balancer.server("b").load), (many, 3))
 
     def test_servers_that_rest_get_no_work(self):
         balancer = Balancer([("a", 1), ("b", 1)])

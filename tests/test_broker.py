@@ -187,6 +187,36 @@ class FollowerTest(BrokerCase):
         self.assertEqual((follower.news_read, follower.host.rows, self.broker.log), ([], [], []))
         self.assertFalse(self.broker.is_done())
 
+    def test_news_that_are_none_are_left_out(self):
+        follower = self.followers[2]
+        for topic, text in (("A", "x"), ("a/#", "x"), ("", "x"), ("a", "x" * 201)):
+            self.broker = Broker(Sent(1))
+            self.broker.tell(2, topic, text)
+            self.broker.tick()
+            self.carry(self.broker, follower)
+            self.assertEqual((follower.news_read, follower.last, follower.host.rows), ([], 0, []))
+        self.broker = Broker(Sent(1))
+        self.broker.tell(2, "a", "x" * 200)
+        self.broker.tick()
+        self.carry(self.broker, follower)
+        self.assertEqual((follower.news_read, follower.last), ([("a", "x" * 200)], 1))
+
+    def test_only_what_tells_that_a_wish_was_heard_ends_its_waiting(self):
+        follower = self.followers[2]
+        follower.wish("publish", "a", "x")
+        self.broker.tell(2, "a", "x")
+        follower.tick()
+        self.broker.tick()
+        self.carry(self.broker, follower)
+        self.assertFalse(follower.is_done())
+        self.carry(follower, self.broker)
+        heard = self.broker.host.rows[-1][2]
+        follower.take(1, heard + (0,))
+        follower.take(2, heard)
+        self.assertFalse(follower.is_done())
+        follower.take(1, heard)
+        self.assertTrue(follower.is_done())
+
 
 class BrokerTest(BrokerCase):
     def test_fields(self):

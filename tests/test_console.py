@@ -255,6 +255,10 @@ class CopiesTest(ConsoleCase):
         self.assertEqual(self.enter("kept a k"), ("one", "three"))
         self.good("write c k four", "write c other five", "finish")
         self.assertEqual((self.enter("kept a k"), self.enter("kept a other")), (("four",), ("five",)))
+        # What a read of another key told counts for that key alone, as does what a write tells.
+        self.good("write a k six", "write b new seven", "finish", "read b k", "finish", "read b new", "finish", "write b k eight",
+                  "write a other nine", "finish")
+        self.assertEqual((self.enter("kept a k"), sorted(self.enter("kept a other"))), (("eight",), ["five", "nine"]))
 
     def test_a_read_that_was_not_answered_yet_tells_nothing(self):
         self.row("abc")

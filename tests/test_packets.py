@@ -20,7 +20,7 @@ class PacketBytesTest(unittest.TestCase):
 
     def test_packets_read_back_with_all_fields(self):
         for row in ((1, 2, 3, 4, 0, 1, ()), (65535, 0, 0, 0, 65535, 0, (0,)), (7, 65535, 16, 2 ** 62 - 1, 1940, 1, (255,)),
-                    (3, 4, 1, 128, 60, 0, tuple(range(256)) * 2)):
+                    (3, 4, 1, 128, 60, 0, tuple(range(256)) * 2), (51205, 51206, 9, 16384, 51207, 1, (3,) * 200)):
             packet = Packet(*row)
             self.assertEqual((packet.source, packet.target, packet.hops, packet.number, packet.place, packet.last,
                               packet.body), row)
@@ -254,6 +254,16 @@ class JoinedTest(unittest.TestCase):
     def test_nothing_is_joined_of_what_was_told_in_two_ways(self):
         self.assertIsNone(joined({0: (1, 2), 1: (3, 4)}, 3))
         self.assertIsNone(joined({0: (1, 2, 3), 2: (9,), 3: (4,)}, 4))
+
+
+    def test_parts_that_overlap(self):
+        body = tuple(range(20))
+        for parts, size, good in (({0: body[:9], 5: body[5:20]}, 20, True), ({0: body[:9], 3: body[3:6], 9: body[9:]}, 20, True),
+                                  ({0: body, 4: body[4:9]}, 20, True), ({0: body[:9], 10: body[10:]}, 20, False),
+                                  ({0: body[:9], 5: (6,) + body[6:]}, 20, False), ({0: body, 4: body[4:8] + (0,)}, 20, False),
+                                  ({5: body[5:], 0: body[:5]}, 20, True), ({0: body, 15: body[15:] + (20,)}, 20, False),
+                                  ({0: body}, 19, False), ({0: body}, 21, False), ({1: body[1:]}, 20, False), ({}, 0, True)):
+            self.assertEqual(joined(parts, size), body[:size] if good else None, parts)
 
 
 class NoOtherErrorTest(unittest.TestCase):
