@@ -112,6 +112,8 @@ class Run:
             return
         if word == "set":
             self.registers[row[1]] = row[2]
+        elif word == "load":
+            self.registers[row[1]] = self.bytes_at(row[2], row[3])
         elif word == "put":
             self.cells[row[1]] = self.number_in(row[2])
         elif word == "op":
@@ -123,7 +125,10 @@ class Run:
     def jumps(self, row):
         """Return True if a row leads to the row that it names."""
         if row[0] == "if":
-            return holds(row[1], self.number_in(row[2]), self.number_in(row[3]))
+            one, other = self.registers[row[2]], self.registers[row[3]]
+            if one is None or other is None:
+                raise FilterError("unset", self.number)
+            return holds(row[1], one, other)
         if row[0] == "need":
             return len(self.data) < row[1]
         return True
@@ -131,8 +136,6 @@ class Run:
     def worth(self, row):
         """Return the number that a row puts into its first register."""
         word = row[0]
-        if word == "load":
-            return self.bytes_at(row[2], row[3])
         if word == "move":
             return self.number_in(row[2])
         if word == "size":

@@ -146,7 +146,8 @@ class Asker:
 
     def tick(self):
         """Return the answer to the request, or one that says that there is none, or None while it is waited for."""
-        self.ending = [session for session in self.ending if go_on_ending(session)]
+        if self.ending != []:
+            self.ending = [session for session in self.ending if go_on_ending(session)]
         if self.session is None:
             return None
         answers = self.session.tick()

@@ -68,7 +68,8 @@ class Session:
         data = self.stream.read()
         # Where nothing came, nothing can have changed.
         found = self.take(data) if data != () or self.is_damaged() else ()
-        if self.fault is None:
+        # Only a stream that has failed, or of which an end was heard, can tell something more.
+        if self.fault is None and (self.stream.state == "failed" or self.stream.end_place is not None):
             self.look_at_stream()
         return found
 

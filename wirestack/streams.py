@@ -209,12 +209,6 @@ class Stream:
             return not self.news
         return self.sent_place > self.told_place or (self.end_sent and not self.end_told)
 
-    def is_quiet(self):
-        """Return True if nothing is due and nothing is awaited: the other side has heard all, and was told all."""
-        if self.news or self.to_send != () or self.state == "opening":
-            return False
-        return not self.closing or self.end_told
-
     def has_sent_all(self):
         """Return True if nothing is due: all was sent, the end, too, and nothing new is to be told."""
         if self.news or (self.closing and not self.end_sent and not self.end_told):
@@ -223,7 +217,7 @@ class Stream:
 
     def tick(self):
         """Let time pass; return the segments that are sent: those due, or all again after a wait."""
-        if self.state == "failed" or self.is_quiet():
+        if self.state == "failed":
             return []
         if self.is_awaiting():
             self.waited += 1
