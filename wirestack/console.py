@@ -78,17 +78,17 @@ class Console:
         if word == "host":
             return (str(self.network.add_host(name).address),)
         if word == "guard":
-            self.host(name).guard_by(Guard(compiled(parse_rules(" ".join(words[1:])))))
+            self.host_of(name).guard_by(Guard(compiled(parse_rules(" ".join(words[1:])))))
             return ("guarded",)
         if word == "passed":
-            return passed_rows(self.host(name))
+            return passed_rows(self.host_of(name))
         if word == "ways":
-            return self.ways(self.host(name))
+            return self.ways_of(self.host_of(name))
         if word == "answers":
             return answer_rows(self.found(self.clients, name))
         return store_rows(self.found(self.origins, name))
 
-    def host(self, name):
+    def host_of(self, name):
         """Return a host; raise HostError for an unknown one."""
         return self.found(self.network.hosts, name)
 
@@ -98,7 +98,7 @@ class Console:
             raise HostError("there is nothing of that name")
         return table[name]
 
-    def ways(self, host):
+    def ways_of(self, host):
         """Return the ways that a host knows, by the hosts' names."""
         names = {other.address: name for name, other in self.network.hosts.items()}
         rows = host.routes.shown()
@@ -142,13 +142,13 @@ class Console:
             raise HostError("no line")
         if word == "name":
             table = self.found(self.tables, words[0])
-            table.set_name(words[1], self.host(words[2]).address, whole(words[3]))
+            table.set_name(words[1], self.host_of(words[2]).address, whole(words[3]))
             return ("named",)
-        host = self.host(words[0])
+        host = self.host_of(words[0])
         if host.runs != [] or words[0] in self.tables:
             raise HostError("something runs there")
         if word == "cache":
-            host.runs.append(CacheRun(host, self.host(words[1]).address, self.next_seed()))
+            host.runs.append(CacheRun(host, self.host_of(words[1]).address, self.next_seed()))
         elif word == "names":
             self.tables[words[0]] = NameTable(host)
         else:
@@ -158,7 +158,7 @@ class Console:
 
     def ask(self, name, target, method, path, body):
         """Let a host ask another one, told by its name or by "@" and a host whose table knows "server"."""
-        host = self.host(name)
+        host = self.host_of(name)
         request = Request(method, path, self.count + 1, (), body)
         self.check_request(host, request)
         if name in self.clients and self.targets[name] != target:
@@ -187,14 +187,14 @@ class Console:
             asker = NameAsker(host, table.host.address)
             client = ClientRun(host, NAME_OF_SERVER, self.next_seed(), [], asker)
         else:
-            client = ClientRun(host, self.host(target).address, self.next_seed(), [])
+            client = ClientRun(host, self.host_of(target).address, self.next_seed(), [])
         host.runs.append(client)
         self.clients[host.name] = client
         self.targets[host.name] = target
 
     def set_copies(self, names):
         """Let copies be kept by some hosts."""
-        hosts = [self.host(name) for name in names]
+        hosts = [self.host_of(name) for name in names]
         if len(set(names)) != len(names) or any([host.runs != [] for host in hosts]):
             raise HostError("something runs there")
         ring = ring_of(hosts)

@@ -30,14 +30,14 @@ class Port:
     def __init__(self, neighbour, link):
         self.neighbour = neighbour
         self.link = link
-        self.vector = None
+        self.rows = None
         self.data = ()
 
     def bytes_of(self, vector):
         """Return the bytes of ways; those that were told last are kept, as they mostly are told again."""
-        if vector != self.vector:
+        if vector != self.rows:
             self.data = vector_bytes(vector)
-            self.vector = vector
+            self.rows = vector
         return self.data
 
 
