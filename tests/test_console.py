@@ -93,11 +93,37 @@ class BuildTest(ConsoleCase):
 
     def test_ways(self):
         self.row("abcd")
-        self.assertEqual(self.enter("ways a"), ("b by b in 1", "c by b in 2", "d by b in 3"))
-        self.assertEqual(self.enter("ways c"), ("a by b in 2", "b by b in 1", "d by d in 1"))
+        self.assertEqual(self.enter("ways a"), ("2 by 2 in 1", "3 by 2 in 2", "4 by 2 in 3"))
+        self.assertEqual(self.enter("ways c"), ("1 by 2 in 2", "2 by 2 in 1", "4 by 4 in 1"))
         self.good("host e")
         self.assertEqual(self.enter("ways e"), ())
-        self.error("ways", "ways x", "ways a b")
+        self.error("ways", "ways x", "ways a b", "ways 1")
+
+    def test_ways_are_told_by_the_addresses_that_host_answers(self):
+        names = ("zoe", "9", "1", "eve", "2")
+        address = {name: self.enter(f"host {name}")[0] for name in names}
+        self.good(*[f"link {one} {other} 60" for one, other in zip(names, names[1:])], "go 15")
+        for at, name in enumerate(names):
+            rows = []
+            for to, target in enumerate(names):
+                if to != at:
+                    neighbour = names[at + 1 if to > at else at - 1]
+                    rows.append(f"{address[target]} by {address[neighbour]} in {abs(to - at)}")
+            self.assertEqual(self.enter(f"ways {name}"), tuple(rows))
+
+    def test_ways_are_ascending_as_numbers(self):
+        self.row("lkjihgfedcba")
+        # News of the last host comes a link further each third round.
+        self.good("go 30")
+        self.assertEqual(self.enter("ways l")[7:], ("9 by 2 in 8", "10 by 2 in 9", "11 by 2 in 10", "12 by 2 in 11"))
+        self.assertEqual(self.enter("ways b"), tuple([f"{to} by 10 in {11 - to}" for to in range(1, 11)]) + ("12 by 12 in 1",))
+
+    def test_ways_that_are_too_far_are_not_told(self):
+        self.row("abc")
+        self.good("down b c", "go 30")
+        self.assertEqual([self.enter(f"ways {name}") for name in "abc"], [("2 by 2 in 1",), ("1 by 1 in 1",), ()])
+        self.good("up b c", "go 12")
+        self.assertEqual(self.enter("ways c"), ("1 by 2 in 2", "2 by 2 in 1"))
 
     def test_lines_that_cannot_be(self):
         self.row("ab")

@@ -83,7 +83,7 @@ class Console:
         if word == "passed":
             return passed_rows(self.host_of(name))
         if word == "ways":
-            return self.ways_of(self.host_of(name))
+            return way_rows(self.host_of(name))
         if word == "answers":
             return answer_rows(self.found(self.clients, name))
         return store_rows(self.found(self.origins, name))
@@ -97,12 +97,6 @@ class Console:
         if name not in table:
             raise HostError("there is nothing of that name")
         return table[name]
-
-    def ways_of(self, host):
-        """Return the ways that a host knows, by the hosts' names."""
-        names = {other.address: name for name, other in self.network.hosts.items()}
-        rows = host.routes.shown()
-        return tuple([f"{names[target]} by {names[neighbour]} in {distance}" for target, neighbour, distance in rows])
 
     def set_link(self, word, words):
         """Add a link, or let one go down or up."""
@@ -222,6 +216,11 @@ def passed_rows(host):
     if host.guard is None:
         raise HostError("no guard is there")
     return (f"{host.guard.accepted} {host.guard.dropped}",)
+
+
+def way_rows(host):
+    """Return the ways that a host knows, by addresses ascending."""
+    return tuple([f"{target} by {neighbour} in {distance}" for target, neighbour, distance in host.routes.shown()])
 
 
 def answer_rows(client):
